@@ -1,4 +1,4 @@
-"""The form of the package: the rules of ../shared/LANGUAGE.md that can be seen from one file alone.
+"""The form of the package: some of the rules of ../shared/LANGUAGE.md, by far not all of them.
 
 It also stands for point 2's last words: nothing here uses a clock, chance or files, since nothing from
 outside of the package is imported and no built-in name beyond the listed ones is used.
