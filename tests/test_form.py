@@ -107,6 +107,48 @@ class Form(unittest.TestCase):
                 self.assertIn(word, BUILT_IN, (name, node.lineno))
                 self.assertIsInstance(getattr(node, "ctx", None), ast.Load, (name, node.lineno))
 
+    def test_only_calls_stand_by_themselves(self):
+        for name, tree in trees():
+            self.assertIsNotNone(ast.get_docstring(tree), name)
+            for node in ast.walk(tree):
+                if isinstance(node, ast.Expr) and node is not tree.body[0]:
+                    self.assertIsInstance(node.value, ast.Call, (name, node.lineno))
+
+    def test_no_local_is_called_like_a_class_or_an_import_of_its_file(self):
+        for name, tree in trees():
+            taken = {node.name for node in tree.body if isinstance(node, ast.ClassDef)}
+            taken |= {alias.name for node in tree.body if isinstance(node, ast.ImportFrom) for alias in node.names}
+            for node in ast.walk(tree):
+                if isinstance(node, ast.arg):
+                    self.assertNotIn(node.arg, taken, (name, node.lineno))
+                if isinstance(node, ast.Name) and isinstance(node.ctx, ast.Store):
+                    self.assertNotIn(node.id, taken, (name, node.lineno))
+
+    def test_names_are_drawn_from_the_file_that_defines_them(self):
+        defined = {}
+        for name, tree in trees():
+            defined[name] = {node.name for node in tree.body if isinstance(node, (ast.FunctionDef, ast.ClassDef))}
+            defined[name] |= {node.targets[0].id for node in tree.body if isinstance(node, ast.Assign)}
+        for name, node in nodes(ast.ImportFrom):
+            for alias in node.names:
+                self.assertIn(alias.name, defined[node.module.partition(".")[2] + ".py"], (name, node.lineno))
+
+    def test_no_two_files_draw_from_one_another(self):
+        draws = {name: set() for name, tree in trees()}
+        for name, node in nodes(ast.ImportFrom):
+            draws[name].add(node.module.partition(".")[2] + ".py")
+        while draws:
+            free = [name for name, drawn in draws.items() if not drawn & set(draws)]
+            self.assertNotEqual(free, [], sorted(draws))
+            for name in free:
+                del draws[name]
+
+    def test_no_name_is_a_method_and_a_value(self):
+        methods = {node.name for name, top in nodes(ast.ClassDef) for node in top.body
+                   if isinstance(node, ast.FunctionDef)}
+        values = {node.attr for name, node in nodes(ast.Attribute) if isinstance(node.ctx, ast.Store)}
+        self.assertEqual(methods & values, set())
+
     def test_methods(self):
         own = {node.name for name, node in nodes(ast.FunctionDef)}
         for name, node in nodes(ast.Call):
