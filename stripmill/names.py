@@ -8,5 +8,10 @@ def is_letter(sign):
     return "a" <= sign <= "z"
 
 
+# Letters alone, in any number but none: so names stand in the text of a works.
+def is_word(text):
+    return len(text) > 0 and all([is_letter(sign) for sign in text])
+
+
 def is_name(text):
-    return 1 <= len(text) <= LONGEST and all([is_letter(sign) for sign in text])
+    return is_word(text) and len(text) <= LONGEST

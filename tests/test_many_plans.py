@@ -1,14 +1,17 @@
-"""Points 13 to 20 on many plans, against a second way: each answer worked out from what is done, beat by beat."""
+"""Points 13 to 22 on many plans, against a second way: each answer worked out from what is done, beat by beat."""
 
+import itertools
 import random
 import unittest
 from collections import defaultdict
 
+from stripmill.costs import cost, work
 from stripmill.errors import BadPlan
 from stripmill.flat import flat, room
 from stripmill.machine import made, run
 from stripmill.meaning import picture
 from stripmill.needs import touched
+from stripmill.planner import best
 from stripmill.plans import fault, kept_reads
 from stripmill.rings import leads, lost
 from stripmill.works import Works
@@ -146,6 +149,26 @@ class SecondWay:
         return [(stage, rings.get(stage, len(self.rows(stage))), self.columns(stage)[0], len(self.columns(stage)))
                 for stage in self.due("whole", "strip")]
 
+    def work(self):
+        """By doing the deeds: each formula that is worked out asks for each of its reads."""
+        counts = dict.fromkeys(self.order, 0)
+
+        def worked_out(stage):
+            counts[stage] += 1
+            for name, dx, dy in self.formula_reads(self.works.formula(stage)):
+                if self.ways.get(name) == "in":
+                    worked_out(name)
+
+        for deed in self.flat():
+            stage = deed[1] if deed[0] == "make" else self.name
+            for x in self.columns(stage):
+                worked_out(stage)
+        return list(counts.items())
+
+    def cost(self, price):
+        boxes = sum(rows * width for stage, rows, left, width in self.room())
+        return sum(count for stage, count in self.work()) + price * boxes
+
     def run(self, deeds):
         boxes, told = {}, []
         rings = {stage: ring for stage, lead, ring in self.leads()}
@@ -213,9 +236,10 @@ class ManyPlans(unittest.TestCase):
             self.assertLessEqual({None, first}, seen)
 
     def check_bad(self, works, name, one, plan):
-        for ask in (leads, flat, room):
+        for ask in (leads, flat, room, work):
             self.assertRaises(BadPlan, ask, works, name, one, plan)
         self.assertRaises(BadPlan, lost, works, name, one, plan, plan[0][0])
+        self.assertRaises(BadPlan, cost, works, name, one, plan, 1)
         self.assertRaises(BadPlan, made, works, {}, name, one, plan)
         self.assertRaises(BadPlan, run, works, {}, name, one, plan, [])
 
@@ -250,6 +274,26 @@ class ManyPlans(unittest.TestCase):
                 deeds.append(("tell", chance.randint(-12, 16)))
             chance.shuffle(deeds)
             self.assertEqual(run(works, given, name, one, plan, deeds), other.run(deeds), (name, plan, deeds))
+
+    def test_work_and_cost(self):
+        for chance, works, given, name, one, plan, other in many_without_fault(21, 200):
+            self.assertEqual(work(works, name, one, plan), other.work(), (name, plan))
+            for price in (0, 1, chance.randint(2, 999), 1000):
+                self.assertEqual(cost(works, name, one, plan, price), other.cost(price), (name, plan, price))
+
+    def test_best(self):
+        chance = random.Random(22)
+        for turn in range(40):
+            works, given = parts_of(chance, (1, 2, 3))
+            name, one, price = chance.choice(works.stages()[:4]), rectangle_for(chance), chance.choice((0, 1, 5, 1000))
+            above, found = works.stages()[:works.stages().index(name)], []
+            for ways in itertools.product(WAYS, repeat=len(above)):
+                plan = list(zip(above, ways))
+                other = SecondWay(works, given, name, one, plan)
+                if other.fault() is None:
+                    found.append((plan, other.cost(price)))
+            # min tells the first of those that cost as little.
+            self.assertEqual(best(works, name, one, price), min(found, key=lambda pair: pair[1]), (name, one, price))
 
 
 if __name__ == "__main__":

@@ -2,7 +2,7 @@
 
 import unittest
 
-from stripmill.names import is_name
+from stripmill.names import is_name, is_word
 
 NAMES = ("a", "z", "m", "ab", "base", "aaaaaaaaaaaa", "abcdefghijkl", "qrstuvwxyz")
 NO_NAMES = (
@@ -32,6 +32,7 @@ class Names(unittest.TestCase):
         for length in range(30):
             with self.subTest(length):
                 self.assertIs(is_name("q" * length), 1 <= length <= 12)
+                self.assertIs(is_word("q" * length), 1 <= length)
 
     def test_every_sign_alone_and_within(self):
         for code in range(ord(" "), ord("~") + 1):
@@ -40,6 +41,8 @@ class Names(unittest.TestCase):
                 letter = sign in "abcdefghijklmnopqrstuvwxyz"
                 self.assertIs(is_name(sign), letter)
                 self.assertIs(is_name("a" + sign + "z"), letter)
+                self.assertIs(is_word(sign), letter)
+                self.assertIs(is_word("a" * 20 + sign), letter)
 
 
 if __name__ == "__main__":
